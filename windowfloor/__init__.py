@@ -1,0 +1,1 @@
+"""Floors on which a small window tells where it lies."""

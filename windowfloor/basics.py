@@ -1,0 +1,47 @@
+"""What several modules need: whole numbers, powers, turns, things alike."""
+
+
+def is_whole(thing):
+    """Tell whether it is a whole number."""
+    # Python counts truths among the ints; here they are no numbers.
+    return isinstance(thing, int) and not isinstance(thing, bool)
+
+
+def is_below(thing, bound):
+    """Tell whether it is a whole number from 0 to below bound."""
+    return is_whole(thing) and 0 <= thing < bound
+
+
+def is_pair_below(thing, high, wide):
+    """Tell whether it is a tuple of a number below high and one below wide."""
+    if not isinstance(thing, tuple) or len(thing) != 2:
+        return False
+    return is_below(thing[0], high) and is_below(thing[1], wide)
+
+
+def power(k, n):
+    """Tell k times itself, n times in all."""
+    total = 1
+    for step in range(n):
+        total *= k
+    return total
+
+
+def turned(row, by):
+    """Tell the row from its place by on, round."""
+    at = by % len(row)
+    return row[at:] + row[:at]
+
+
+def first_alike(spots, looks):
+    """Tell the least two of the rising spots whose looks are alike, or None."""
+    spots_by_look = {}
+    for spot, look in zip(spots, looks):
+        if look not in spots_by_look:
+            spots_by_look[look] = []
+        spots_by_look[look].append(spot)
+    # A dict keeps its order, so the looks come by their first spots.
+    for found in spots_by_look.values():
+        if len(found) > 1:
+            return (found[0], found[1])
+    return None
