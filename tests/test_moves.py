@@ -82,6 +82,9 @@ class MovedFloor(unittest.TestCase):
         self.assertEqual(moved_floor(("signs", (0,)), ((0, 0),)), ((0, 0),))
         self.assertEqual(moved_floor(("signs", ORDER), ((0, 35),)), ((35, 34),))
 
+    def test_a_sign_that_the_order_does_not_reach_raises_nothing(self):
+        self.assertEqual(moved_floor(("signs", (1, 0)), ((0, 1, 2),)), ((1, 0, 2),))
+
 
 class MovedShape(unittest.TestCase):
     shape = ((0, 2), (1, 0), (1, 1), (3, 1))
