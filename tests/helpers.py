@@ -1,4 +1,10 @@
-"""What several tests need: things of any kind, floors, shapes, and all that is told."""
+"""What several tests need: things of any kind, floors, shapes, rows and rules, and all that is told."""
+
+import itertools
+
+from windowfloor.errors import FloorError
+from windowfloor.leaning import leans
+from windowfloor.words import row_twins
 
 
 class Odd:
@@ -64,3 +70,59 @@ def is_plain(told):
     if type(told) is tuple:
         return all(is_plain(part) for part in told)
     return told is None or type(told) in (int, str, bool)
+
+
+def refusal(function, *told):
+    """The class of the refusal, or None where nothing is refused."""
+    try:
+        function(*told)
+    except FloorError as error:
+        return type(error)
+    return None
+
+
+def naive_words(k, n):
+    return list(itertools.product(range(k), repeat=n))
+
+
+def some_rule(k, n, chance):
+    """An even rule: behind the kin of each word are put all numbers below k, in any order."""
+    orders = [chance.sample(range(k), k) for low in range(k ** (n - 1))]
+    return tuple(orders[low][first] for first in range(k) for low in range(k ** (n - 1)))
+
+
+def some_shape(chance, high, wide, most):
+    cells = chance.sample([(i, j) for i in range(high) for j in range(wide)], chance.randint(1, most))
+    up, left = min(i for i, j in cells), min(j for i, j in cells)
+    return tuple(sorted((i - up, j - left) for i, j in cells))
+
+
+def some_row(chance, most, many, n):
+    """A row of numbers below most whose words of n are unlike."""
+    row = tuple(chance.randrange(most) for number in range(many))
+    while row_twins(row, n) is not None:
+        row = tuple(chance.randrange(most) for number in range(many))
+    return row
+
+
+def some_rows(chance, a, b):
+    """A base and steps that go round, as a shape that leans by a and b asks for them."""
+    base = some_row(chance, 3, chance.randint(1, {1: 3, 2: 6, 3: 9}[a]), a)
+    n = len(base)
+    if b == 1:
+        return base, (0,)
+    steps = some_row(chance, n, chance.randint(1, min(n, 5)), b - 1)
+    while sum(steps) % n:
+        steps = some_row(chance, n, chance.randint(1, min(n, 5)), b - 1)
+    return base, steps
+
+
+def some_laid(chance, many):
+    """So many times a base and steps that go round, and a shape that leans as they ask: (base, steps, a, b, shape)."""
+    told = []
+    while len(told) < many:
+        a, b = chance.randint(1, 3), chance.randint(1, 3)
+        shape = some_shape(chance, 5, 5, 16)
+        if leans(shape, a, b) is not None:
+            told.append((*some_rows(chance, a, b), a, b, shape))
+    return told

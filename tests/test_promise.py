@@ -1,9 +1,14 @@
 """Point 3, the promise, as far as it is built, and point 2 for all that is built."""
 
 import itertools
+import random
 import unittest
 
-from tests.helpers import FLOORS, SHAPES, places
+from tests.helpers import FLOORS, SHAPES, places, some_laid, some_rule
+from windowfloor.joinlooks import shows_joins
+from windowfloor.joins import joined
+from windowfloor.laying import laid
+from windowfloor.leaning import read_laid
 from windowfloor.leastrows import least_row
 from windowfloor.moves import moved_floor, moved_place, moved_seen, moved_shape
 from windowfloor.otherrows import greatest_row, walked_row
@@ -28,13 +33,40 @@ class Whole(unittest.TestCase):
 
 
 class FullRows(unittest.TestCase):
-    """(b), its first half"""
+    """(b)"""
 
     def test_rows_made_by_unlike_ways_are_full(self):
         for k, n in ((1, 1), (1, 40), (2, 1), (2, 9), (3, 5), (4, 4), (5, 3), (24, 2), (600, 1)):
             for row in (least_row(k, n), greatest_row(k, n), walked_row(k, n)):
                 self.assertIs(is_full_row(row, k, n), True)
                 self.assertIsNone(row_twins(row, n))
+
+    def test_the_joined_row_of_any_even_rule_is_full(self):
+        chance = random.Random(3)
+        for k, n in ((1, 1), (1, 40), (2, 1), (2, 6), (2, 9), (3, 4), (4, 4), (5, 3), (24, 2), (600, 1)):
+            for count in range(5):
+                rule = some_rule(k, n, chance)
+                row, joins = joined(k, n, rule)
+                self.assertIs(is_full_row(row, k, n), True)
+                self.assertIs(shows_joins(k, n, rule, (row, joins)), True)
+                if k > 1:
+                    self.assertIs(shows_joins(k, n, rule, (row, joins + ((0, k ** (n - 1)),))), False)
+
+
+class LaidFloors(unittest.TestCase):
+    """(c), what is said of laid floors"""
+
+    def test_whole_for_each_shape_that_leans_and_read_by_parts(self):
+        chance = random.Random(4)
+        for base, steps, a, b, shape in some_laid(chance, 200):
+            floor = laid(base, steps)
+            self.assertIsNone(twins(floor, shape))
+            for seen in [window(floor, shape, place) for place in places(floor)]:
+                self.assertEqual((read_laid(base, steps, a, b, shape, seen),), places_of(floor, shape, seen))
+            for count in range(20):
+                seen = tuple(chance.randrange(3) for cell in shape)
+                told = read_laid(base, steps, a, b, shape, seen)
+                self.assertEqual(() if told is None else (told,), places_of(floor, shape, seen))
 
 
 class Moved(unittest.TestCase):

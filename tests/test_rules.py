@@ -3,17 +3,13 @@
 import itertools
 import unittest
 
-from tests.helpers import STRANGE_THINGS, is_plain, nested
+from tests.helpers import STRANGE_THINGS, is_plain, naive_words, nested
 from windowfloor.leastrows import least_row
 from windowfloor.otherrows import greatest_row, walked_row
 from windowfloor.rules import cycles, is_rule, number_of, rule_of, turning_rule, word_of
 
 SIZES = [(1, 1), (1, 2), (1, 40), (2, 1), (2, 2), (2, 3), (2, 4), (2, 9), (3, 2), (3, 5), (5, 1), (8, 3), (24, 2), (600, 1)]
 TINY_SIZES = [(1, 1), (1, 3), (2, 1), (2, 2), (2, 3), (3, 1), (4, 1)]
-
-
-def naive_words(k, n):
-    return list(itertools.product(range(k), repeat=n))
 
 
 def naive_followers(k, n, rule):

@@ -1,4 +1,4 @@
-"""What several modules need: whole numbers, powers, turns, things alike."""
+"""What several modules need: whole numbers, powers, turns, things alike, what comes round."""
 
 
 def is_whole(thing):
@@ -45,3 +45,15 @@ def first_alike(spots, looks):
         if len(found) > 1:
             return (found[0], found[1])
     return None
+
+
+def gone_round(start, step):
+    """Tell the list of what comes from the start on, each by the step from the last, until one comes again."""
+    gone = []
+    stood = set()
+    now = start
+    while now not in stood:
+        stood.add(now)
+        gone.append(now)
+        now = step(now)
+    return gone

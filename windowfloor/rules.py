@@ -1,6 +1,6 @@
 """Rules: what is put behind each word, and the cycles in which the words go round."""
 
-from windowfloor.basics import is_below, power
+from windowfloor.basics import gone_round, is_below, power
 from windowfloor.words import MOST_NUMBERS, word_at
 
 
@@ -50,17 +50,24 @@ def rule_of(row, k, n):
     return tuple([put_behind[number] for number in range(len(row))])
 
 
+def cycle_from(k, rule, start):
+    """Tell the list of the numbers of the words in the start's cycle, from the start on."""
+    return gone_round(start, lambda number: follower(number, rule[number], k, len(rule)))
+
+
+def cycle_numbers(k, rule):
+    """Tell the list of the lists of the numbers of each cycle's words, by rising least words, from these on."""
+    told = []
+    stood = set()
+    for start in range(len(rule)):
+        if start not in stood:
+            numbers = cycle_from(k, rule, start)
+            told.append(numbers)
+            for number in numbers:
+                stood.add(number)
+    return told
+
+
 def cycles(k, n, rule):
     """Tell the round rows of the even rule's cycles, by rising least words."""
-    rows = []
-    seen = set()
-    for start in range(len(rule)):
-        row = []
-        number = start
-        while number not in seen:
-            seen.add(number)
-            row.append(word_of(number, k, n)[0])
-            number = follower(number, rule[number], k, len(rule))
-        if row:
-            rows.append(tuple(row))
-    return tuple(rows)
+    return tuple([tuple([word_of(number, k, n)[0] for number in numbers]) for numbers in cycle_numbers(k, rule)])
