@@ -126,3 +126,21 @@ def some_laid(chance, many):
         if leans(shape, a, b) is not None:
             told.append((*some_rows(chance, a, b), a, b, shape))
     return told
+
+
+def some_floor(chance, most, k):
+    """A floor of signs below k, of at most so many rows and columns."""
+    high, wide = chance.randint(1, most), chance.randint(1, most)
+    return tuple(tuple(chance.randrange(k) for c in range(wide)) for r in range(high))
+
+
+def some_whole(chance, shape, k):
+    """A floor of signs below k that is whole for the shape."""
+    floor = some_floor(chance, 4, k)
+    while len({seen_at(floor, shape, place) for place in places(floor)}) < len(places(floor)):
+        floor = some_floor(chance, 4, k)
+    return floor
+
+
+def all_states(machine):
+    return list(itertools.product(range(machine[0]), repeat=len(machine[1])))

@@ -4,7 +4,7 @@ import itertools
 import random
 import unittest
 
-from tests.helpers import FLOORS, SHAPES, places, some_laid, some_rule
+from tests.helpers import FLOORS, SHAPES, all_states, places, some_laid, some_rule, some_shape, some_whole
 from windowfloor.joinlooks import shows_joins
 from windowfloor.joins import joined
 from windowfloor.laying import laid
@@ -12,7 +12,10 @@ from windowfloor.leaning import read_laid
 from windowfloor.leastrows import least_row
 from windowfloor.moves import moved_floor, moved_place, moved_seen, moved_shape
 from windowfloor.otherrows import greatest_row, walked_row
+from windowfloor.pairing import paired, read_paired
+from windowfloor.seeing import judged, shown
 from windowfloor.shifts import beside
+from windowfloor.tearing import apart, bears, nearest
 from windowfloor.windows import places_of, twins, window
 from windowfloor.words import is_full_row, row_twins
 
@@ -67,6 +70,107 @@ class LaidFloors(unittest.TestCase):
                 seen = tuple(chance.randrange(3) for cell in shape)
                 told = read_laid(base, steps, a, b, shape, seen)
                 self.assertEqual(() if told is None else (told,), places_of(floor, shape, seen))
+
+
+class PairedFloors(unittest.TestCase):
+    """(c), what is said of paired floors"""
+
+    def test_whole_where_both_are_and_read_by_parts(self):
+        chance = random.Random(5)
+        for count in range(150):
+            shape = some_shape(chance, 3, 3, 5)
+            one, other = some_whole(chance, shape, 5), some_whole(chance, shape, 7)
+            floor = paired(one, other, 7)
+            self.assertIsNone(twins(floor, shape))
+            for seen in [window(floor, shape, place) for place in places(floor)]:
+                self.assertEqual((read_paired(one, other, 7, shape, seen),), places_of(floor, shape, seen))
+            for count in range(20):
+                seen = tuple(chance.randrange(36) for cell in shape)
+                told = read_paired(one, other, 7, shape, seen)
+                self.assertEqual(() if told is None else (told,), places_of(floor, shape, seen))
+
+
+class TornAndWrong(unittest.TestCase):
+    """(d)"""
+
+    def some_pairs(self):
+        chance = random.Random(6)
+        pairs = [(floor, shape) for floor in FLOORS for shape in SHAPES if len(places(floor)) > 1 and len(shape) < 6]
+        pairs += [(some_whole(chance, shape, 3), shape) for shape in SHAPES[2:10] for count in range(6)]
+        return [(floor, shape) for floor, shape in pairs if len(places(floor)) > 1]
+
+    def torn(self, seen, cells):
+        return tuple(None if at in cells else sign for at, sign in enumerate(seen))
+
+    def test_all_places_that_fit_are_told(self):
+        for floor, shape in self.some_pairs():
+            seen = window(floor, shape, (0, 0))
+            for many in range(len(shape) + 1):
+                for cells in itertools.combinations(range(len(shape)), many):
+                    torn = self.torn(seen, cells)
+                    wanted = []
+                    for place in places(floor):
+                        if self.torn(window(floor, shape, place), cells) == torn:
+                            wanted.append(place)
+                    self.assertEqual(places_of(floor, shape, torn), tuple(wanted))
+
+    def test_one_place_where_no_more_are_torn_than_are_borne(self):
+        for floor, shape in self.some_pairs():
+            for place in places(floor):
+                for many in range(bears(floor, shape) + 1):
+                    for cells in itertools.combinations(range(len(shape)), many):
+                        torn = self.torn(window(floor, shape, place), cells)
+                        self.assertEqual(places_of(floor, shape, torn), (place,))
+
+    def test_two_places_for_some_window_and_one_more(self):
+        for floor, shape in self.some_pairs():
+            many, one, other = apart(floor, shape)
+            self.assertEqual(many, bears(floor, shape) + 1)
+            both = zip(window(floor, shape, one), window(floor, shape, other))
+            cells = [at for at, (sign, other_sign) in enumerate(both) if sign != other_sign]
+            self.assertEqual(len(cells), many)
+            found = places_of(floor, shape, self.torn(window(floor, shape, one), cells))
+            self.assertTrue({one, other} <= set(found))
+
+    def test_the_nearest_place_is_the_right_one(self):
+        chance = random.Random(7)
+        done = 0
+        for floor, shape in self.some_pairs():
+            many = apart(floor, shape)[0]
+            for torn_cells, wrong_cells in itertools.product(range(len(shape) + 1), repeat=2):
+                if torn_cells + 2 * wrong_cells >= many or torn_cells + wrong_cells > len(shape):
+                    continue
+                for place in places(floor):
+                    cells = chance.sample(range(len(shape)), torn_cells + wrong_cells)
+                    seen = list(self.torn(window(floor, shape, place), cells[:torn_cells]))
+                    for at in cells[torn_cells:]:
+                        seen[at] = (seen[at] + chance.randint(1, 35)) % 36
+                    self.assertEqual(nearest(floor, shape, tuple(seen)), (wrong_cells, (place,)))
+                    done += wrong_cells > 0
+        self.assertGreater(done, 20)
+
+
+class SeesOrBlind(unittest.TestCase):
+    """(e), its first half"""
+
+    def test_a_paper_of_one_sort_only(self):
+        chance = random.Random(8)
+        for machine in ((2, (1, 1, 0)), (2, (1, 0, 1, 0)), (3, (1, 2)), (3, (2, 0, 1)), (5, (3, 1)), (7, (2, 5))):
+            k, taps = machine
+            for count in range(40):
+                pattern = tuple(chance.randrange(12) for number in range(chance.randint(1, 6)))
+                sort, paper = judged(machine, pattern)
+                looks = {state: shown(machine, pattern, state) for state in all_states(machine)}
+                unseen = [state for state in looks if any(state) and not any(looks[state])]
+                if sort == "blind":
+                    self.assertIn(paper, unseen)
+                    self.assertLess(len(set(looks.values())), len(looks))
+                else:
+                    self.assertEqual((sort, unseen), ("sees", []))
+                    self.assertEqual(len(set(looks.values())), len(looks))
+                    for state, seen in looks.items():
+                        told = tuple(sum(factor * sign for factor, sign in zip(factors, seen)) % k for factors in paper)
+                        self.assertEqual(told, state)
 
 
 class Moved(unittest.TestCase):

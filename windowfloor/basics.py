@@ -1,4 +1,4 @@
-"""What several modules need: whole numbers, powers, turns, things alike, what comes round."""
+"""What several modules need: whole numbers, powers, parts, turns, things alike, what comes round."""
 
 
 def is_whole(thing):
@@ -25,6 +25,25 @@ def power(k, n):
     for step in range(n):
         total *= k
     return total
+
+
+def greatest_part(m, n):
+    """Tell the greatest number that parts both m and n without rest."""
+    while n != 0:
+        m, n = n, m % n
+    return m
+
+
+def inverse(number, n):
+    """Tell the number below n that times this one leaves 1 by n, where no number above 1 parts both."""
+    rest, next_rest = n, number % n
+    # Each rest is, but for multiples of n, its factor times the number.
+    factor, next_factor = 0, 1
+    while next_rest != 0:
+        times = rest // next_rest
+        rest, next_rest = next_rest, rest - times * next_rest
+        factor, next_factor = next_factor, factor - times * next_factor
+    return factor % n
 
 
 def turned(row, by):
