@@ -1,6 +1,7 @@
 """What several tests need: things of any kind, floors, shapes, rows and rules, and all that is told."""
 
 import itertools
+import math
 
 from windowfloor.errors import FloorError
 from windowfloor.leaning import leans
@@ -144,3 +145,8 @@ def some_whole(chance, shape, k):
 
 def all_states(machine):
     return list(itertools.product(range(machine[0]), repeat=len(machine[1])))
+
+
+def coprime_sizes(many):
+    """All (high, wide) to which a row of so many signs can be folded."""
+    return [(high, many // high) for high in range(1, many + 1) if many % high == 0 and math.gcd(high, many // high) == 1]

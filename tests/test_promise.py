@@ -4,16 +4,23 @@ import itertools
 import random
 import unittest
 
-from tests.helpers import FLOORS, SHAPES, all_states, places, some_laid, some_rule, some_shape, some_whole
+from tests.helpers import (
+    FLOORS, SHAPES, all_states, coprime_sizes, places, some_floor, some_laid, some_rule, some_shape, some_whole,
+)
+from windowfloor.bars import barred, most_places
+from windowfloor.folding import folded, pattern_of, read_folded
 from windowfloor.joinlooks import shows_joins
 from windowfloor.joins import joined
 from windowfloor.laying import laid
 from windowfloor.leaning import read_laid
 from windowfloor.leastrows import least_row
+from windowfloor.machines import is_greatest, machine_row
 from windowfloor.moves import moved_floor, moved_place, moved_seen, moved_shape
 from windowfloor.otherrows import greatest_row, walked_row
 from windowfloor.pairing import paired, read_paired
 from windowfloor.seeing import judged, shown
+from windowfloor.seelooks import shows_judged
+from windowfloor.shapes import box
 from windowfloor.shifts import beside
 from windowfloor.tearing import apart, bears, nearest
 from windowfloor.windows import places_of, twins, window
@@ -160,6 +167,7 @@ class SeesOrBlind(unittest.TestCase):
             for count in range(40):
                 pattern = tuple(chance.randrange(12) for number in range(chance.randint(1, 6)))
                 sort, paper = judged(machine, pattern)
+                self.assertIs(shows_judged(machine, pattern, (sort, paper)), True)
                 looks = {state: shown(machine, pattern, state) for state in all_states(machine)}
                 unseen = [state for state in looks if any(state) and not any(looks[state])]
                 if sort == "blind":
@@ -171,6 +179,60 @@ class SeesOrBlind(unittest.TestCase):
                     for state, seen in looks.items():
                         told = tuple(sum(factor * sign for factor, sign in zip(factors, seen)) % k for factors in paper)
                         self.assertEqual(told, state)
+
+    def test_no_paper_of_the_other_sort(self):
+        for machine in ((2, (1, 1)), (2, (1, 0)), (3, (2,))):
+            k, taps = machine
+            for pattern in itertools.product(range(4), repeat=2):
+                rows = list(itertools.product(range(k), repeat=2))
+                papers = [("sees", paper) for paper in itertools.product(rows, repeat=len(taps))]
+                states = [("blind", state) for state in all_states(machine)]
+                right = {thing[0] for thing in papers + states if shows_judged(machine, pattern, thing)}
+                self.assertEqual(right, {judged(machine, pattern)[0]})
+
+
+class FoldedFloors(unittest.TestCase):
+    """(e), its second half"""
+
+    def test_whole_just_where_the_pattern_sees(self):
+        chance = random.Random(9)
+        sorts = []
+        for k, m in ((2, 1), (2, 2), (2, 3), (2, 4), (2, 6), (3, 1), (3, 2), (3, 3), (5, 1), (5, 2), (7, 1), (7, 2)):
+            machines = [machine for machine in self.all_machines(k, m) if is_greatest(machine)]
+            for machine in chance.sample(machines, min(2, len(machines))):
+                state = chance.choice(all_states(machine)[1:])
+                row = machine_row(machine, state)
+                for high, wide in coprime_sizes(len(row)):
+                    floor = folded(row, high, wide)
+                    for shape in SHAPES + [some_shape(chance, 3, 3, m + 1) for count in range(4)]:
+                        sort, paper = judged(machine, pattern_of(shape, high, wide))
+                        self.assertEqual(twins(floor, shape) is None, sort == "sees", (machine, high, wide, shape))
+                        sorts.append(sort)
+                        if sort == "sees":
+                            place = chance.choice(places(floor))
+                            seen = window(floor, shape, place)
+                            self.assertEqual(read_folded(machine, state, high, wide, shape, paper, seen), place)
+        self.assertGreater(min(sorts.count("sees"), sorts.count("blind")), 100)
+
+    def all_machines(self, k, m):
+        return [(k, taps) for taps in itertools.product(range(k), repeat=m) if taps[0] != 0]
+
+
+class Bars(unittest.TestCase):
+    """(f), what is said of how many places there are at most"""
+
+    def test_no_whole_floor_has_more_places(self):
+        chance = random.Random(10)
+        done = 0
+        for count in range(1500):
+            k = chance.randint(1, 4)
+            floor = some_floor(chance, 5, k)
+            a, b = chance.randint(1, 4), chance.randint(1, 4)
+            if twins(floor, box(a, b)) is None:
+                done += 1
+                self.assertLessEqual(len(places(floor)), most_places(k, a, b, len(floor), len(floor[0])))
+                self.assertIs(barred(k, a, b, len(floor), len(floor[0])), False)
+        self.assertGreater(done, 200)
 
 
 class Moved(unittest.TestCase):

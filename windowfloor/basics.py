@@ -19,6 +19,16 @@ def is_pair_below(thing, high, wide):
     return is_below(thing[0], high) and is_below(thing[1], wide)
 
 
+def is_word(thing, bound, many):
+    """Tell whether it is a tuple of so many numbers below bound."""
+    return isinstance(thing, tuple) and len(thing) == many and all([is_below(number, bound) for number in thing])
+
+
+def is_named_pair(thing):
+    """Tell whether it is a tuple of a text and something else."""
+    return isinstance(thing, tuple) and len(thing) == 2 and isinstance(thing[0], str)
+
+
 def power(k, n):
     """Tell k times itself, n times in all."""
     total = 1

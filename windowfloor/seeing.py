@@ -15,15 +15,24 @@ def only_one(at, many):
     return tuple([1 if spot == at else 0 for spot in range(many)])
 
 
+def all_ones(many):
+    """Tell the list of the tuples of so many noughts, but one 1."""
+    return [only_one(at, many) for at in range(many)]
+
+
+def state_by(paper, seen, k):
+    """Tell the state that the paper's sums tell of what is seen."""
+    return tuple([sum([factor * sign for factor, sign in zip(factors, seen)]) % k for factors in paper])
+
+
 def sum_rows(machine, pattern):
     """Tell the list with a row for each number of the pattern.
 
     First stand the factors of the state's numbers by which they make up what the pattern's number shows. Behind them
     stand the factors of all that is shown by which it makes up the same: so far this one alone.
     """
-    m = len(machine[1])
-    columns = [shown(machine, pattern, only_one(at, m)) for at in range(m)]
-    return [[column[at] for column in columns] + list(only_one(at, len(pattern))) for at in range(len(pattern))]
+    columns = [shown(machine, pattern, state) for state in all_ones(len(machine[1]))]
+    return [[column[at] for column in columns] + list(alone) for at, alone in enumerate(all_ones(len(pattern)))]
 
 
 def lead_at(rows, start, c):
