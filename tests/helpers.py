@@ -12,6 +12,13 @@ class Odd:
     """An object that is no plain value."""
 
 
+class LikeAll:
+    """An object that says that it is the same as anything."""
+
+    def __eq__(self, other):
+        return True
+
+
 def nested(deep, inner):
     for step in range(deep):
         inner = (inner,)
@@ -150,3 +157,57 @@ def all_states(machine):
 def coprime_sizes(many):
     """All (high, wide) to which a row of so many signs can be folded."""
     return [(high, many // high) for high in range(1, many + 1) if many % high == 0 and math.gcd(high, many // high) == 1]
+
+
+def holes_of(torn):
+    return [(r, c) for r, c in places(torn) if torn[r][c] is None]
+
+
+def with_told(torn, told):
+    """The torn floor with the signs that are told for some places."""
+    return tuple(tuple(told.get((r, c), sign) for c, sign in enumerate(row)) for r, row in enumerate(torn))
+
+
+def all_filled(torn, k):
+    """All floors with signs below k in the place of each None."""
+    holes = holes_of(torn)
+    for signs in itertools.product(range(k), repeat=len(holes)):
+        yield with_told(torn, dict(zip(holes, signs)))
+
+
+def is_naively_whole(floor, shape):
+    return len({seen_at(floor, shape, place) for place in places(floor)}) == len(places(floor))
+
+
+def is_naively_right(torn, k, shape, tree):
+    """Whether the tree is right, where it is built of the right kinds of values."""
+    if tree[0] == "twins":
+        name, one, other = tree
+        signs = seen_at(torn, shape, one)
+        return one < other and None not in signs and signs == seen_at(torn, shape, other)
+    name, place, trees = tree
+    if place not in holes_of(torn) or len(trees) != k:
+        return False
+    return all(is_naively_right(with_told(torn, {place: sign}), k, shape, trees[sign]) for sign in range(k))
+
+
+def some_torn(chance, most, k, most_holes):
+    """A torn floor of at most so many rows and columns, told signs below k, with at most so many None."""
+    floor = some_floor(chance, most, k)
+    spots = places(floor)
+    holes = chance.sample(spots, chance.randint(0, min(most_holes, len(spots))))
+    return with_told(floor, {place: None for place in holes})
+
+
+# Small torn floors, with the k and the shape for which they are filled: of some there is a floor, of others a tree.
+TORN_CASES = [
+    (((0,),), 2, ((0, 0),)), (((None,),), 2, ((0, 0),)), (((None,),), 36, ((0, 0), (0, 1), (2, 2))),
+    (((0, 1),), 2, ((0, 0),)), (((0, 0),), 2, ((0, 0),)), (((0, None),), 2, ((0, 0),)), (((None, None),), 2, ((0, 0),)),
+    (((0, None, 0),), 2, ((0, 0),)), (((None, None, None),), 2, ((0, 0),)), (((None, None, None),), 3, ((0, 0),)),
+    (((None, 0), (1, 2)), 3, ((0, 0),)), (((None, 0), (1, 2)), 4, ((0, 0),)), (((1, None), (None, 1)), 3, ((0, 0), (0, 1))),
+    (((0, 0, None, None),), 2, ((0, 0), (0, 1))), (((0, None, 0, None),), 2, ((0, 0), (0, 1))),
+    (((None,) * 4,), 2, ((0, 0), (0, 1))), (((None,) * 5,), 2, ((0, 0), (0, 1))), (((None,), (0,), (None,)), 2, ((0, 0),)),
+    (((0, 0, None), (None, 0, 0), (1, None, None)), 2, ((0, 0), (0, 1), (1, 0))),
+    (((0, None), (None, 0)), 3, ((0, 1), (1, 0))), (((0, 0), (0, None)), 2, ((0, 0), (0, 1), (1, 0), (1, 1))),
+    (((5, None, 5, None),), 6, ((0, 0), (0, 2))), (((0, 1, 0, None),), 9, ((0, 0), (0, 39))),
+]

@@ -5,7 +5,7 @@ import math
 import random
 import unittest
 
-from tests.helpers import STRANGE_THINGS, all_states, is_plain, nested
+from tests.helpers import LikeAll, STRANGE_THINGS, all_states, is_plain, nested
 from windowfloor.machines import is_greatest, is_machine, machine_row, order, stepped
 from windowfloor.words import is_row
 
@@ -40,13 +40,6 @@ def naive_states(machine, state):
         told.append(now)
         now = naive_step(machine, now)
     return told
-
-
-class LikeAll:
-    """An object that says that it is the same as anything."""
-
-    def __eq__(self, other):
-        return True
 
 
 class IsMachine(unittest.TestCase):

@@ -1,13 +1,17 @@
-"""Point 3, the promise, as far as it is built, and point 2 for all that is built."""
+"""Point 3, the promise, whole, and point 2 with it."""
 
 import itertools
 import random
 import unittest
 
 from tests.helpers import (
-    FLOORS, SHAPES, all_states, coprime_sizes, places, some_floor, some_laid, some_rule, some_shape, some_whole,
+    FLOORS, SHAPES, TORN_CASES, all_filled, all_states, coprime_sizes, holes_of, is_naively_whole, places, some_floor, some_laid,
+    some_rule, some_shape, some_torn, some_whole, with_told,
 )
 from windowfloor.bars import barred, most_places
+from windowfloor.desk import Desk
+from windowfloor.filling import filled
+from windowfloor.filllooks import shows_filled
 from windowfloor.folding import folded, pattern_of, read_folded
 from windowfloor.joinlooks import shows_joins
 from windowfloor.joins import joined
@@ -18,10 +22,12 @@ from windowfloor.machines import is_greatest, machine_row
 from windowfloor.moves import moved_floor, moved_place, moved_seen, moved_shape
 from windowfloor.otherrows import greatest_row, walked_row
 from windowfloor.pairing import paired, read_paired
+from windowfloor.reading import read_floor, read_row, read_seen, read_shape, read_torn
 from windowfloor.seeing import judged, shown
 from windowfloor.seelooks import shows_judged
 from windowfloor.shapes import box
-from windowfloor.shifts import beside
+from windowfloor.shifts import beside, kept_by, least_of
+from windowfloor.showing import show_floor, show_row, show_seen, show_shape, show_torn
 from windowfloor.tearing import apart, bears, nearest
 from windowfloor.windows import places_of, twins, window
 from windowfloor.words import is_full_row, row_twins
@@ -235,6 +241,62 @@ class Bars(unittest.TestCase):
         self.assertGreater(done, 200)
 
 
+class FilledFloors(unittest.TestCase):
+    """(f), what is said of torn floors"""
+
+    def all_trees(self, torn, k, deep):
+        """All that looks like a tree of the torn floor, asking at most so many cells behind one another."""
+        trees = [("twins", one, other) for one, other in itertools.combinations(places(torn), 2)]
+        if deep > 0:
+            below = self.all_trees(torn, k, deep - 1)
+            for place, parts in itertools.product(holes_of(torn), itertools.product(below, repeat=k)):
+                trees.append(("cell", place, parts))
+        return trees
+
+    def test_a_floor_or_a_tree_never_both(self):
+        sorts = []
+        for torn in (((None, None),), ((0, None),), ((0, 0),), ((0, None, 0),), ((0, None, 1),), ((None, 1, None),)):
+            for shape in (box(1, 1), box(1, 2), ((0, 0), (0, 2))):
+                floors = [("floor", floor) for floor in all_filled(torn, 2)]
+                trees = [("tree", tree) for tree in self.all_trees(torn, 2, len(holes_of(torn)))]
+                right = {thing[0] for thing in floors + trees if shows_filled(torn, 2, shape, thing)}
+                sort = filled(torn, 2, shape)[0]
+                self.assertEqual(right, {sort}, (torn, shape))
+                sorts.append(sort)
+        self.assertGreater(min(sorts.count("floor"), sorts.count("tree")), 3)
+
+    def test_of_each_torn_floor_what_is_told_is_shown(self):
+        chance = random.Random(11)
+        cases = list(TORN_CASES)
+        for count in range(100):
+            k = chance.choice((2, 2, 3))
+            cases.append((some_torn(chance, 5, k, 5), k, some_shape(chance, 3, 3, 5)))
+        for torn, k, shape in cases:
+            sort, thing = filled(torn, k, shape)
+            self.assertIs(shows_filled(torn, k, shape, (sort, thing)), True)
+            some_is_whole = any(is_naively_whole(floor, shape) for floor in all_filled(torn, k))
+            self.assertEqual(sort, "floor" if some_is_whole else "tree")
+
+    def test_of_barred_sizes_there_is_a_tree(self):
+        done = 0
+        for high, wide, a, b in itertools.product((1, 2, 3), (1, 2, 3, 4, 5, 6, 7, 8), (1, 2), (1, 2)):
+            if high * wide <= 8 and barred(2, a, b, high, wide):
+                done += 1
+                torn = ((None,) * wide,) * high
+                self.assertEqual(filled(torn, 2, box(a, b))[0], "tree", (high, wide, a, b))
+        self.assertGreater(done, 20)
+
+    def test_a_whole_floor_torn_is_filled(self):
+        chance = random.Random(12)
+        for shape in SHAPES[:10]:
+            for count in range(5):
+                floor = some_whole(chance, shape, 3)
+                holes = chance.sample(places(floor), min(5, len(places(floor))))
+                torn = with_told(floor, {place: None for place in holes})
+                self.assertIs(shows_filled(torn, 3, shape, ("floor", floor)), True)
+                self.assertEqual(filled(torn, 3, shape)[0], "floor")
+
+
 class Moved(unittest.TestCase):
     """(g), its first half"""
 
@@ -272,3 +334,46 @@ class BesideItself(unittest.TestCase):
                 for r, c in places_of(floor, shape, seen):
                     over += [(r + high * a, c + wide * b) for a in range(down) for b in range(right)]
                 self.assertEqual(places_of(great, shape, seen), tuple(sorted(over)))
+
+
+class WrittenAndRead(unittest.TestCase):
+    """(h), what is said of texts"""
+
+    def test_what_is_written_is_read_as_it_was(self):
+        chance = random.Random(13)
+        for floor in FLOORS:
+            self.assertEqual(read_floor(show_floor(floor)), floor)
+        for torn, k, shape in TORN_CASES:
+            self.assertEqual(read_torn(show_torn(torn)), torn)
+        for shape in SHAPES:
+            self.assertEqual(read_shape(show_shape(shape)), shape)
+            seen = tuple(chance.choice((None, 0, 9, 10, 35)) for cell in shape)
+            self.assertEqual(read_seen(show_seen(shape, seen)), (shape, seen))
+        for k, n in ((1, 1), (2, 9), (24, 2), (600, 1)):
+            self.assertEqual(read_row(show_row(least_row(k, n))), least_row(k, n))
+
+
+class AtTheDesk(unittest.TestCase):
+    """(h), what is said of the desk"""
+
+    def told(self, found):
+        return " ".join(f"{r},{c}" for r, c in found) or "-"
+
+    def test_the_desk_answers_as_all_these_do(self):
+        chance = random.Random(14)
+        for floor in FLOORS:
+            desk = Desk(show_floor(floor))
+            for count in range(6):
+                move = chance.choice(MOVES)
+                words = [str(number) for number in move[1:]] if move[0] == "shift" else [show_row(order) for order in move[1:]]
+                if "-1000000" not in words:
+                    self.assertEqual(desk.say(" ".join([move[0], *words])), "done")
+                    floor = moved_floor(move, floor)
+                self.assertEqual(desk.say("show"), show_floor(floor))
+                self.assertEqual(desk.say("keeps"), self.told(kept_by(floor)))
+                self.assertEqual(desk.say("least"), show_floor(least_of(floor)[0]))
+                shape = chance.choice(SHAPES)
+                pair = twins(floor, shape)
+                self.assertEqual(desk.say(f"whole {show_shape(shape)}"), "whole" if pair is None else self.told(pair))
+                seen = tuple(chance.choice((None, sign)) for sign in window(floor, shape, chance.choice(places(floor))))
+                self.assertEqual(desk.say(f"where {show_seen(shape, seen)}"), self.told(places_of(floor, shape, seen)))

@@ -5,7 +5,7 @@ import itertools
 import random
 import unittest
 
-from tests.helpers import STRANGE_THINGS, all_states, nested
+from tests.helpers import LikeAll, STRANGE_THINGS, all_states, nested
 from windowfloor.machines import stepped
 from windowfloor.seeing import judged
 from windowfloor.seelooks import shows_judged
@@ -233,6 +233,13 @@ class OfAnything(unittest.TestCase):
     def is_right(self, word, thing):
         """Of strange things only 0 and 1 themselves make up what is right; repr tells them from truths."""
         return repr(thing) == {"sees": repr(self.SEES[2]), "blind": repr(self.BLIND[2])}[word]
+
+    def test_objects_that_are_like_all(self):
+        for machine, pattern, (word, paper) in (self.SEES, self.BLIND):
+            wrongs = [LikeAll(), (LikeAll(), paper), (word, LikeAll()), (LikeAll(), LikeAll())]
+            wrongs += [(word, with_other(paper, at, LikeAll())) for at in range(len(paper))]
+            for wrong in wrongs:
+                self.assertIs(shows_judged(machine, pattern, wrong), False)
 
     def test_nested_deep(self):
         for machine, pattern, (word, paper) in (self.SEES, self.BLIND):
